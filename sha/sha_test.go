@@ -166,7 +166,7 @@ func TestP2_1Pair(t *testing.T) {
 	}
 }
 
-func TestP2_1PairPublished(t *testing.T) {
+func TestP2_1PairOfNoughts(t *testing.T) {
 	// 65 bytes 00, so that the last block holds one of them.
 	expect(t, "noughts", sha.Pair(0, api.Digest{}, api.Digest{}), "98ce42deef51d40269d542f5314bef2c7468d401ad5d85168bfab4c0108f75f7")
 }
